@@ -1,0 +1,58 @@
+"""Calls on one reader, told as one list of numbers, and their answers as another."""
+
+from cardreader.questions import tell_counts, tell_find, tell_item, tell_statement
+from cardreader.reader import Reader
+from cardreader.walk import Walk
+
+CLEAR = 0
+FEED = 1
+FINISH = 2
+COUNTS = 3
+STATEMENT = 4
+ITEM = 5
+FIND = 6
+
+# No number of a call is below 0, so this can't be taken for one.
+END = -1
+
+
+class UnknownCall(ValueError):
+    """The list holds a number of a call that there isn't."""
+
+
+def answers(calls):
+    """For each call, in order: how many numbers are answered, then these."""
+    reader = Reader()
+    walk = Walk(calls, END)
+    told = []
+    while walk.peek() != END:
+        answer = answer_call(reader, walk)
+        told.append(len(answer))
+        told.extend(answer)
+    return told
+
+
+def answer_call(reader, walk):
+    call = walk.take()
+    if call == CLEAR:
+        reader.renew()
+        return [0]
+    if call == FEED:
+        return [reader.feed(take_row(walk))]
+    if call == FINISH:
+        return [reader.finish()]
+    if call == COUNTS:
+        return tell_counts(reader)
+    if call == STATEMENT:
+        return tell_statement(reader, walk.take())
+    if call == ITEM:
+        place = walk.take()
+        return tell_item(reader, place, take_row(walk))
+    if call == FIND:
+        place = walk.take()
+        return tell_find(reader, place, take_row(walk))
+    raise UnknownCall(call)
+
+
+def take_row(walk):
+    return walk.take_many(walk.take())
