@@ -1,6 +1,9 @@
 """Calls on one reader, told as one list of numbers, and their answers as another."""
 
-from cardreader.questions import tell_counts, tell_find, tell_item, tell_statement
+from cardreader.questions import (
+    tell_cards, tell_counts, tell_error, tell_find, tell_item, tell_label, tell_next, tell_operands,
+    tell_row, tell_statement, tell_test,
+)
 from cardreader.reader import Reader
 from cardreader.walk import Walk
 
@@ -11,6 +14,13 @@ COUNTS = 3
 STATEMENT = 4
 ITEM = 5
 FIND = 6
+ROW = 7
+ERROR = 8
+CARDS = 9
+OPERANDS = 10
+TEST = 11
+NEXT = 12
+LABEL = 13
 
 # No number of a call is below 0, so this can't be taken for one.
 END = -1
@@ -43,14 +53,32 @@ def answer_call(reader, walk):
         return [reader.finish()]
     if call == COUNTS:
         return tell_counts(reader)
+    if call == OPERANDS:
+        return tell_operands(take_row(walk))
+    if call == TEST:
+        return tell_test(take_row(walk))
+    return answer_of_place(reader, walk, call)
+
+
+def answer_of_place(reader, walk, call):
+    """Answers one of the calls that begin with a place."""
+    place = walk.take()
     if call == STATEMENT:
-        return tell_statement(reader, walk.take())
+        return tell_statement(reader, place)
     if call == ITEM:
-        place = walk.take()
         return tell_item(reader, place, take_row(walk))
     if call == FIND:
-        place = walk.take()
         return tell_find(reader, place, take_row(walk))
+    if call == ROW:
+        return tell_row(reader, place, walk.take())
+    if call == ERROR:
+        return tell_error(reader, place)
+    if call == CARDS:
+        return tell_cards(reader, place)
+    if call == NEXT:
+        return tell_next(reader, place, walk.take())
+    if call == LABEL:
+        return tell_label(reader, place, take_row(walk))
     raise UnknownCall(call)
 
 

@@ -1,7 +1,20 @@
-"""The questions about what a reader has read. Each answers a list of numbers, a refusal as one alone."""
+"""The questions, most of them about what a reader has read. Each answers a list of numbers, a refusal as one alone."""
+
+from cardreader.conditions import NoTest, plain_form
+from cardreader.layout import CannotBeLaid, cards_of
+from cardreader.operands import NoOperandText, are_in_order, read_operands
+from cardreader.reader import REFUSED_BYTE
+from cardreader.signs import is_plain
+from cardreader.statements import LONGEST_TEXT
 
 REFUSED_PLACE = -5
 REFUSED_NOT_FOUND = -6
+REFUSED_LAYING = -7
+REFUSED_TEXT = -8
+REFUSED_ORDER = -9
+REFUSED_LENGTH = -10
+
+NOT_REFUSED = 0
 
 
 def as_row(signs):
@@ -57,3 +70,73 @@ def tell_find(reader, place, key):
         if item.key == key:
             return [item_place]
     return [REFUSED_NOT_FOUND]
+
+
+def tell_row(reader, place, row_place):
+    if place >= len(reader.statements):
+        return [REFUSED_PLACE]
+    rows = reader.statements[place].rows
+    if row_place >= len(rows):
+        return [REFUSED_NOT_FOUND]
+    return [0] + as_row(rows[row_place])
+
+
+def tell_error(reader, place):
+    if place >= len(reader.errors):
+        return [REFUSED_PLACE]
+    return list(reader.errors[place])
+
+
+def tell_cards(reader, place):
+    if place >= len(reader.statements):
+        return [REFUSED_PLACE]
+    try:
+        laid = cards_of(reader.statements[place])
+    except CannotBeLaid:
+        return [REFUSED_LAYING]
+    told = [len(laid)]
+    for card in laid:
+        told.extend(as_row(card))
+    return told
+
+
+def tell_operands(signs):
+    refusal = refusal_of_bytes(signs)
+    if refusal != NOT_REFUSED:
+        return [refusal]
+    try:
+        found = read_operands(signs)
+    except NoOperandText:
+        return [REFUSED_TEXT]
+    return [len(found)] if are_in_order(found) else [REFUSED_ORDER]
+
+
+def tell_test(signs):
+    refusal = refusal_of_bytes(signs)
+    if refusal != NOT_REFUSED:
+        return [refusal]
+    try:
+        form = plain_form(signs)
+    except NoTest:
+        return [REFUSED_TEXT]
+    return [REFUSED_LENGTH] if len(form) > LONGEST_TEXT else [0] + as_row(form)
+
+
+def refusal_of_bytes(signs):
+    if not all([is_plain(byte) for byte in signs]):
+        return REFUSED_BYTE
+    return REFUSED_LENGTH if len(signs) > LONGEST_TEXT else NOT_REFUSED
+
+
+def tell_next(reader, begin, kind):
+    for place, statement in enumerate(reader.statements):
+        if place >= begin and statement.kind == kind:
+            return [place]
+    return [REFUSED_PLACE]
+
+
+def tell_label(reader, begin, label):
+    for place, statement in enumerate(reader.statements):
+        if place >= begin and statement.label == label:
+            return [place]
+    return [REFUSED_PLACE]

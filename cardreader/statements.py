@@ -48,6 +48,11 @@ def kind_of(operation):
     return UNKNOWN
 
 
+def operation_of(kind):
+    """The word of a kind that has one: of each but the null statement's."""
+    return [word for word, number in KINDS.items() if number == kind][0]
+
+
 def head_error(label, kind):
     if len(label) > 0 and not is_key(label):
         return WRONG_LABEL

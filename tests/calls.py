@@ -12,8 +12,8 @@ def feed(text):
     return [1, len(text)] + [ord(sign) for sign in text]
 
 
-def feed_cards(*cards):
-    return feed("".join(card + "\n" for card in cards))
+def feed_cards(*given):
+    return feed("".join(card + "\n" for card in given))
 
 
 def finish():
@@ -34,6 +34,34 @@ def item(k, *path):
 
 def find(k, key):
     return [6, k, len(key)] + [ord(sign) for sign in key]
+
+
+def row(k, r):
+    return [7, k, r]
+
+
+def error(k):
+    return [8, k]
+
+
+def cards(k):
+    return [9, k]
+
+
+def operands(text):
+    return [10, len(text)] + [ord(sign) for sign in text]
+
+
+def condition(text):
+    return [11, len(text)] + [ord(sign) for sign in text]
+
+
+def next_of(k, kind):
+    return [12, k, kind]
+
+
+def label(k, text):
+    return [13, k, len(text)] + [ord(sign) for sign in text]
 
 
 def ask(*calls):
@@ -72,15 +100,29 @@ def item_of(answer):
     return with_rows(answer, 2)
 
 
-def read(*cards):
+def row_of(answer):
+    return with_rows(answer, 1)
+
+
+def cards_of(answer):
+    """The cards that cards tells; a refusal as it is."""
+    if len(answer) == 1:
+        return answer
+    told = with_rows(answer, 1)
+    if told[0] != len(told) - 1:
+        raise AssertionError(f"not as many cards as told: {told}")
+    return told[1:]
+
+
+def read(*given):
     """A reader that has read these cards and isn't finished."""
     reader = Reader()
-    reader.feed([ord(sign) for card in cards for sign in card + "\n"])
+    reader.feed([ord(sign) for card in given for sign in card + "\n"])
     return reader
 
 
-def finished(*cards):
-    reader = read(*cards)
+def finished(*given):
+    reader = read(*given)
     reader.finish()
     return reader
 
@@ -91,7 +133,7 @@ def texts_of(reader):
 
 def items_told(text):
     """Each item of a SET statement with this text, as item tells it."""
-    cards = feed_cards("//A SET " + text)
-    amount = ask(cards, statement(0))[1][3]
-    told = ask(cards, *[item(0, k) for k in range(amount)])
+    given = feed_cards("//A SET " + text)
+    amount = ask(given, statement(0))[1][3]
+    told = ask(given, *[item(0, k) for k in range(amount)])
     return [item_of(answer) for answer in told[1:]]
