@@ -49,7 +49,7 @@ def kind_of(operation):
 
 
 def operation_of(kind):
-    """The word of a kind that has one: of each but the null statement's."""
+    """The operation of a kind; each kind but that of the null statement has one."""
     return [word for word, number in KINDS.items() if number == kind][0]
 
 
